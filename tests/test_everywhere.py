@@ -1,0 +1,38 @@
+"""Points 1 to 4: what holds everywhere."""
+
+import os
+import subprocess
+import sys
+import unittest
+
+ROOT = os.path.dirname(os.path.dirname(os.path.abspath(__file__)))
+
+STAGE_ONE = """
+from papersat.bank import Bank, copy_term, subterms
+from papersat.forms import literal_form
+from tests.support import new_bank, call
+bank = new_bank()
+parts = [call(bank, name) for name in ("t", "s", "u")]
+total = bank.make("sum", None, parts)
+most = bank.make("most", None, [total, bank.make("scale", (2, 3), [parts[1]])])
+other = new_bank()
+print(bank.signature.sorts(), bank.signature.functions(), list(bank), subterms(bank, [most]))
+print(literal_form(bank, most), literal_form(bank, -most), copy_term(bank, most, other), list(other))
+"""
+
+
+def printed(program, seed):
+    """What a program prints under a seed for the hashes of Python."""
+    environment = dict(os.environ, PYTHONHASHSEED=str(seed), PYTHONPATH=ROOT)
+    done = subprocess.run(
+        [sys.executable, "-c", program], cwd=ROOT, env=environment, capture_output=True, text=True, check=True
+    )
+    return done.stdout
+
+
+class SameResultsTest(unittest.TestCase):
+    def test_bank_and_forms(self):
+        first = printed(STAGE_ONE, 0)
+        self.assertGreater(len(first), 500)
+        for seed in (1, 2, 12345):
+            self.assertEqual(printed(STAGE_ONE, seed), first)
