@@ -4,7 +4,6 @@ from papersat.errors import BadNode, BadSort, UnknownName
 
 LEAF_SORTS = {"true": "truth", "false": "truth", "whole": "whole", "ratio": "ratio"}
 CONNECTIVES = ("not", "and", "or", "imply")
-COMPARISONS = ("equal", "distinct", "most", "less")
 SUMS = {"shift": "whole", "scale": "ratio", "sum": "ratio"}
 OPS = (
     "true", "false", "not", "and", "or", "imply", "if", "equal", "distinct", "most", "less",
@@ -29,10 +28,9 @@ class Bank:
             raise BadSort(op)
         if op == "call" and not self.signature.knows_function(value):
             raise UnknownName(value)
-        for part in parts:
-            if not self.has(part):
-                raise BadNode(part)
-        sort = _sort_made(self.signature, op, value, [self.sort_of(part) for part in parts])
+        # A part that is no node is refused here, before the sorts are looked at.
+        sorts = [self.sort_of(part) for part in parts]
+        sort = _sort_made(self.signature, op, value, sorts)
         if sort is None:
             raise BadSort(op)
         node = (op, value, _parts_kept(op, parts))

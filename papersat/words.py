@@ -23,8 +23,8 @@ def is_whole_word(text):
 
 def is_ratio_word(text):
     """True for a whole word, a slash and digits that do not begin with 0."""
-    above, slash, below = text.partition("/")
-    return slash == "/" and is_whole_word(above) and _is_positive_word(below)
+    above, _, below = text.partition("/")
+    return is_whole_word(above) and _is_positive_word(below)
 
 
 def _is_positive_word(text):

@@ -6,6 +6,7 @@ from papersat.words import RESERVED, is_name, is_ratio_word, is_whole_word
 
 LETTERS = "abcdefghijklmnopqrstuvwxyzABCDEFGHIJKLMNOPQRSTUVWXYZ"
 DIGITS = "0123456789"
+FOREIGN = ["\u00e9", "\u00b2", "\u0663", "\uff15", "\u0391"]
 OTHERS = [chr(code) for code in range(32, 127) if chr(code) not in LETTERS + DIGITS + "_"] + ["\n", "\t"]
 
 
@@ -39,6 +40,9 @@ class NameTest(unittest.TestCase):
     def test_edges(self):
         for text in ("", " ", "a b", " a", "a ", "a\n", "\na", "a-b", "a.b", "1", "=", "<=", "+", "*", "<", "(", ")"):
             self.assertIs(is_name(text), False, text)
+        for char in FOREIGN:
+            self.assertIs(is_name(char), False)
+            self.assertIs(is_name("a" + char), False)
         for text in ("a", "Z", "a_", "a__", "v7", "is", "else", "given", "x" * 24, "x" * 25, "x" * 3000):
             self.assertIs(is_name(text), True, text)
 
@@ -54,6 +58,13 @@ class WholeWordTest(unittest.TestCase):
             "1_0", "_1", "1.0", "1e5", "0x1", "1/1", "a", "1a", "a1", "-a", "(1", "0 0", "0\n", "-1\n",
         ):
             self.assertIs(is_whole_word(text), False, text)
+
+    def test_foreign_digits(self):
+        for char in FOREIGN:
+            for text in (char, "-" + char, "1" + char):
+                self.assertIs(is_whole_word(text), False)
+                self.assertIs(is_ratio_word(text + "/1"), False)
+                self.assertIs(is_ratio_word("1/" + text), False)
 
     def test_every_short_word(self):
         good = {str(number) for number in range(-99, 1000)}

@@ -1,0 +1,71 @@
+"""Every name of the interface is defined in the file under which the document lists it."""
+
+import importlib
+import inspect
+import unittest
+
+FUNCTIONS = {
+    "words": ["is_name(text)", "is_whole_word(text)", "is_ratio_word(text)"],
+    "ratios": [
+        "ratio(p, q=1)", "plus(a, b)", "minus(a, b)", "times(a, b)", "over(a, b)", "opposite(a)", "compare(a, b)",
+        "ratio_text(a)", "parse_ratio(text)",
+    ],
+    "forms": [
+        "constant_form(a)", "base_form(node)", "form_plus(f, g)", "form_times(a, f)", "form_value(f, values)",
+        "term_form(bank, node)", "literal_form(bank, literal)",
+    ],
+    "bank": ["subterms(bank, nodes)", "copy_term(bank, node, other)"],
+    "scanner": ["scan(text)"],
+    "reader": ["parse(bank, text)"],
+    "printer": ["print_term(bank, node)", "print_shared(bank, node)", "text_length(bank, node)"],
+    "models": ["model_text(model)", "read_model(signature, text)"],
+    "meaning": [
+        "meanings(bank, model, nodes)", "meaning(bank, model, node)", "literal_holds(bank, model, literal)",
+        "clause_holds(bank, model, clause)",
+    ],
+    "clauses": [
+        "clause_of(literals)", "resolve(clause, literal, other)", "extra_nodes(bank, node)", "part_clauses(bank, node)",
+        "gather(bank, nodes)",
+    ],
+}
+
+CLASSES = {
+    ("signature", "Signature"): [
+        "__init__(self)", "declare_sort(self, name)", "declare_function(self, name, arguments, result)", "sorts(self)",
+        "functions(self)", "knows_sort(self, name)", "knows_function(self, name)", "arguments_of(self, name)",
+        "result_of(self, name)",
+    ],
+    ("bank", "Bank"): [
+        "__init__(self, signature)", "make(self, op, value, parts)", "seek(self, op, value, parts)", "node(self, number)",
+        "sort_of(self, number)", "has(self, number)", "__len__(self)", "__iter__(self)",
+    ],
+    ("models", "Model"): [
+        "__init__(self, signature)", "give(self, name, arguments, value)", "otherwise(self, name, value)",
+        "look(self, name, arguments)", "rows_of(self, name)", "default_of(self, name)",
+    ],
+}
+
+
+def headline(function):
+    return function.__name__ + str(inspect.signature(function))
+
+
+class InterfaceTest(unittest.TestCase):
+    def test_functions(self):
+        for name, heads in FUNCTIONS.items():
+            module = importlib.import_module("papersat." + name)
+            for head in heads:
+                function = vars(module)[head.split("(")[0]]
+                self.assertEqual(function.__module__, module.__name__)
+                self.assertEqual(headline(function), head)
+
+    def test_classes(self):
+        for (name, class_name), heads in CLASSES.items():
+            module = importlib.import_module("papersat." + name)
+            found = vars(module)[class_name]
+            self.assertEqual(found.__module__, module.__name__)
+            for head in heads:
+                self.assertEqual(headline(vars(found)[head.split("(")[0]]), head)
+
+    def test_names(self):
+        self.assertIs(type(importlib.import_module("papersat.words").RESERVED), tuple)
