@@ -34,6 +34,23 @@ print(meanings(bank, model, nodes), [print_shared(bank, node) for node in nodes]
 print(model_text(model) == model_text(read_model(bank.signature, model_text(model))), model_text(model))
 """
 
+STAGE_THREE = """
+import random
+from papersat.listener import Forbidding
+from papersat.log import Log
+from papersat.search import Search
+chance = random.Random(8)
+log = Log()
+nodes = list(range(1, 41))
+for _ in range(170):
+    chosen = sorted(chance.sample(nodes, 3))
+    log.write("given", tuple(node * chance.choice((1, -1)) for node in chosen), None)
+search = Search(log, nodes, list(range(100)), Forbidding(log, list(range(100, 170))))
+for assumptions in ([], [3, -5], [7, 8, -9, 3]):
+    print(search.ask(assumptions, record=True), search.learned(), search.sizes_record())
+print(log.all_steps())
+"""
+
 
 def printed(program, seed):
     """What a program prints under a seed for the hashes of Python."""
@@ -56,3 +73,6 @@ class SameResultsTest(unittest.TestCase):
 
     def test_texts_models_and_clauses(self):
         self.check(STAGE_TWO)
+
+    def test_search(self):
+        self.check(STAGE_THREE)

@@ -27,7 +27,10 @@ FUNCTIONS = {
         "clause_of(literals)", "resolve(clause, literal, other)", "extra_nodes(bank, node)", "part_clauses(bank, node)",
         "gather(bank, nodes)",
     ],
+    "learning": ["learn(trail, watching, clause, source)", "final_clause(trail, watching, literal)"],
 }
+
+LISTENER = ["told(self, literal)", "fault(self)", "back(self, count)", "told_count(self)"]
 
 CLASSES = {
     ("signature", "Signature"): [
@@ -42,6 +45,25 @@ CLASSES = {
     ("models", "Model"): [
         "__init__(self, signature)", "give(self, name, arguments, value)", "otherwise(self, name, value)",
         "look(self, name, arguments)", "rows_of(self, name)", "default_of(self, name)",
+    ],
+    ("log", "Log"): [
+        "__init__(self)", "write(self, kind, clause, details)", "take(self, steps)", "step(self, number)",
+        "clause_at(self, number)", "all_steps(self)", "__len__(self)", "__iter__(self)",
+    ],
+    ("listener", "Listener"): ["__init__(self)", *LISTENER],
+    ("listener", "Forbidding"): ["__init__(self, log, numbers)", *LISTENER],
+    ("trail", "Trail"): [
+        "__init__(self, nodes)", "choose(self, literal)", "force(self, literal, reason)", "back(self, level)",
+        "value(self, literal)", "level_of(self, literal)", "reason_of(self, literal)", "place_of(self, literal)",
+        "literals(self)", "sizes(self)", "depth(self)", "__contains__(self, x)",
+    ],
+    ("watching", "Watching"): [
+        "__init__(self, trail)", "put(self, clause, source)", "clause(self, number)", "source(self, number)",
+        "watched(self, number)", "propagate(self)", "forget(self, number)", "size(self)",
+    ],
+    ("search", "Search"): [
+        "__init__(self, log, nodes, numbers, listener)", "ask(self, assumptions, *, restarts=12, record=False)",
+        "learned(self)", "sizes_record(self)",
     ],
 }
 
