@@ -99,9 +99,10 @@ class Search:
         number = self._watching.propagate()
         if number is not None:
             return (self._watching.clause(number), self._watching.source(number))
-        for literal in self._trail.literals()[self._heard:]:
+        news = self._trail.literals()[self._heard:]
+        for literal in news:
             self._listener.told(literal)
-            self._heard += 1
+        self._heard += len(news)
         fault = self._listener.fault()
         return None if fault is None else (self._log.clause_at(fault), fault)
 

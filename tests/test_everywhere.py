@@ -51,6 +51,30 @@ for assumptions in ([], [3, -5], [7, 8, -9, 3]):
 print(log.all_steps())
 """
 
+STAGE_FOUR = """
+import random
+from papersat.joined import Joined
+from papersat.log import Log
+from papersat.meeting import meeting_pairs, question
+from papersat.reader import parse
+from papersat.search import Search
+from tests.sentences import some_sentence
+from tests.support import new_bank
+for seed in range(12):
+    chance = random.Random(seed)
+    bank = new_bank()
+    log = Log()
+    sentences = [parse(bank, some_sentence(chance, 3)) for _ in range(8)]
+    nodes, numbers = question(bank, log, sentences)
+    joined = Joined(bank, log, nodes)
+    truths = [node for node in nodes if bank.sort_of(node) == "truth"]
+    search = Search(log, truths, numbers, joined)
+    print(search.ask(sentences, record=True), search.sizes_record(), list(bank), meeting_pairs(bank, nodes))
+    print(log.all_steps(), joined.classes.groups())
+    if joined.fault() is None:
+        print(joined.ways.heights(), joined.rows.point())
+"""
+
 
 def printed(program, seed):
     """What a program prints under a seed for the hashes of Python."""
@@ -76,3 +100,6 @@ class SameResultsTest(unittest.TestCase):
 
     def test_search(self):
         self.check(STAGE_THREE)
+
+    def test_layers(self):
+        self.check(STAGE_FOUR)

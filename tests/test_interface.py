@@ -4,6 +4,15 @@ import importlib
 import inspect
 import unittest
 
+from papersat.bank import Bank
+from papersat.classes import Classes
+from papersat.joined import Joined
+from papersat.listener import Forbidding, Listener
+from papersat.log import Log
+from papersat.rows import Rows
+from papersat.signature import Signature
+from papersat.ways import Ways
+
 FUNCTIONS = {
     "words": ["is_name(text)", "is_whole_word(text)", "is_ratio_word(text)"],
     "ratios": [
@@ -28,6 +37,8 @@ FUNCTIONS = {
         "gather(bank, nodes)",
     ],
     "learning": ["learn(trail, watching, clause, source)", "final_clause(trail, watching, literal)"],
+    "reasons": ["reason_step(bank, classes, log, a, b)", "clash_step(bank, classes, log)"],
+    "meeting": ["meeting_pairs(bank, nodes)", "question(bank, log, sentences)"],
 }
 
 LISTENER = ["told(self, literal)", "fault(self)", "back(self, count)", "told_count(self)"]
@@ -65,6 +76,19 @@ CLASSES = {
         "__init__(self, log, nodes, numbers, listener)", "ask(self, assumptions, *, restarts=12, record=False)",
         "learned(self)", "sizes_record(self)",
     ],
+    ("classes", "Classes"): [
+        "__init__(self, bank, points)", "unite(self, a, b, label)", "same(self, a, b)", "path(self, a, b)",
+        "groups(self)", "joins(self)", "back(self, count)",
+    ],
+    ("rows", "Rows"): [
+        "__init__(self)", "bound(self, form, strict, label)", "settle(self)", "point(self)", "bounds(self)",
+        "back(self, count)",
+    ],
+    ("ways", "Ways"): [
+        "__init__(self)", "limit(self, x, y, k, label)", "settle(self)", "heights(self)", "limits(self)",
+        "back(self, count)",
+    ],
+    ("joined", "Joined"): ["__init__(self, bank, log, nodes)", *LISTENER],
 }
 
 
@@ -91,3 +115,9 @@ class InterfaceTest(unittest.TestCase):
 
     def test_names(self):
         self.assertIs(type(importlib.import_module("papersat.words").RESERVED), tuple)
+
+    def test_attributes_of_joined(self):
+        bank = Bank(Signature())
+        joined = Joined(bank, Log(), [])
+        self.assertEqual([type(each) for each in (joined.classes, joined.rows, joined.ways)], [Classes, Rows, Ways])
+        self.assertTrue(issubclass(Joined, Listener) and issubclass(Forbidding, Listener))
