@@ -1,5 +1,7 @@
 """Whether a step is good, by the words of points 32 and 66, and the meaning of forms in clashes."""
 
+from math import gcd
+
 from papersat.clauses import part_clauses
 from papersat.forms import constant_form, form_plus, form_times, literal_form
 
@@ -28,7 +30,7 @@ def is_clause(bank, clause):
     """True if this is a clause over nodes of sort truth of the bank."""
     nodes = [abs(literal) for literal in clause]
     fits = type(clause) is tuple and nodes == sorted(set(nodes))
-    return fits and all(bank.has(node) and bank.sort_of(node) == "truth" for node in nodes)
+    return fits and all(is_node(bank, node) and bank.sort_of(node) == "truth" for node in nodes)
 
 
 def equal_node(bank, x, y):
@@ -77,20 +79,56 @@ def adds_up(bank, clause, details):
     return clashes([(literal_form(bank, -literal), weight) for literal, weight in zip(clause, details)])
 
 
+def is_node(bank, value):
+    return type(value) is int and 1 <= value <= len(bank)
+
+
+def is_tuple(value, fits):
+    """True if this is a tuple of items that fit."""
+    return type(value) is tuple and all(fits(item) for item in value)
+
+
+def has_shape(bank, kind, details, number):
+    """True if the details have the shape that point 66 gives a kind, with known nodes and steps."""
+    def node(value):
+        return is_node(bank, value)
+
+    def earlier(value):
+        return type(value) is int and 0 <= value < number
+
+    def weight(value):
+        return is_tuple(value, lambda item: type(item) is int and item > 0) and len(value) == 2 and gcd(*value) == 1
+
+    def strike(value):
+        return type(value) is tuple and len(value) == 2 and type(value[0]) is int and earlier(value[1])
+
+    if kind in ("chain", "resolve"):
+        one, many = (node, node) if kind == "chain" else (earlier, strike)
+        return type(details) is tuple and len(details) == 2 and one(details[0]) and is_tuple(details[1], many)
+    if kind == "like":
+        return is_tuple(details, node) and len(details) == 2
+    return {"part": node, "same": lambda value: value is None, "sum": lambda value: is_tuple(value, weight)}[kind](details)
+
+
+KINDS = ("part", "same", "chain", "like", "sum", "resolve")
+
+
 def is_good(bank, steps, number):
     """True if the step is good in the list of steps."""
     kind, clause, details = steps[number]
-    if not is_clause(bank, clause):
+    if kind not in KINDS or not is_clause(bank, clause) or not has_shape(bank, kind, details, number):
         return False
     if kind == "part":
         return clause in part_clauses(bank, details)
     if kind == "same":
-        (op, _, parts), _ = bank.node(abs(clause[0])), bank.node(clause[0])
-        return details is None and len(clause) == 1 and op == "equal" and parts[0] == parts[1]
+        if len(clause) != 1 or clause[0] < 0:
+            return False
+        op, _, parts = bank.node(clause[0])
+        return op == "equal" and parts[0] == parts[1]
     if kind == "chain":
         return walks(bank, clause, details)
     if kind == "like":
         return compares(bank, clause, details)
     if kind == "sum":
-        return adds_up(bank, clause, details)
-    return kind == "resolve" and resolves(steps, number)
+        return all(bank.node(abs(literal))[0] == "most" for literal in clause) and adds_up(bank, clause, details)
+    return resolves(steps, number)

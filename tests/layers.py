@@ -39,6 +39,20 @@ def holds(form, strict, values):
     return p < 0 or p == 0 and not strict
 
 
+def heights_exist(limits):
+    """True if integers fit all limits (x, y, k, ..), each saying that x minus y is at most k."""
+    heights = {place: 0 for limit in limits for place in limit[:2]}
+    for _ in range(len(heights) + 1):
+        falls = False
+        for x, y, k, *_ in limits:
+            if heights[x] > heights[y] + k:
+                heights[x] = heights[y] + k
+                falls = True
+        if not falls:
+            return True
+    return False
+
+
 def numbers_of(bank, nodes, joined):
     """The values of the nodes of sort whole and ratio by point 65."""
     heights, point = joined.ways.heights(), joined.rows.point()

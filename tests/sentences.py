@@ -48,3 +48,32 @@ def some_sentence(chance, depth):
     """The text of a disjunction of some atoms and negations of atoms."""
     parts = [some_atom(chance, depth) for _ in range(chance.choice((1, 1, 2, 2, 3)))]
     return f"(or {' '.join(part if chance.random() < 0.5 else f'(not {part})' for part in parts)})"
+
+
+def knotted_sentences(chance, count, width=2):
+    """The texts of sentences over few atoms, which often cannot be true together for deeper reasons."""
+    def whole():
+        return chance.choice(("x", "y", "z", "(f x)", "(f y)", f"(+ x {chance.randrange(-2, 3)})", f"(+ y {chance.randrange(-2, 3)})", "1"))
+
+    def fraction():
+        return chance.choice(("s", "t", "(g s x)", "(g t x)", "(g s y)", "(+ s t)", "(* 1/2 s)", "1/2"))
+
+    def thing():
+        return chance.choice(("a", "b", "c", "(h a b)", "(h b a)", "(h c c)", "(if p a b)"))
+
+    def atom():
+        kind = chance.randrange(8)
+        if kind < 3:
+            return f"({chance.choice(('<', '<=', '='))} {whole()} {whole()})"
+        if kind < 5:
+            return f"({chance.choice(('<', '<=', '='))} {fraction()} {fraction()})"
+        if kind < 7:
+            return f"(= {thing()} {thing()})"
+        return f"(is_old {thing()})"
+
+    atoms = [atom() for _ in range(count // 2 if width == 2 else count // 4 + 2)]
+    sentences = []
+    for _ in range(count):
+        parts = chance.sample(atoms, min(width, len(atoms)))
+        sentences.append(f"(or {' '.join(part if chance.random() < 0.5 else f'(not {part})' for part in parts)})")
+    return sentences

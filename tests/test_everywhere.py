@@ -75,6 +75,53 @@ for seed in range(12):
         print(joined.ways.heights(), joined.rows.point())
 """
 
+STAGE_FIVE = """
+import random
+from papersat.checker import first_bad
+from papersat.kept import Kept
+from papersat.models import model_text
+from papersat.papertext import read_paper, write_paper
+from papersat.reader import parse
+from papersat.solver import solve
+from tests.sentences import knotted_sentences
+from tests.support import new_bank
+kept = Kept()
+bank = new_bank()
+for seed in range(8):
+    sentences = [parse(bank, text) for text in knotted_sentences(random.Random(seed), 18)]
+    answer = solve(bank, sentences, kept=kept)
+    if answer.yes:
+        print(model_text(answer.model))
+    else:
+        text = write_paper(bank, answer.paper)
+        print(text, first_bad(*read_paper(bank.signature, text)))
+    print(len(bank), kept.lists())
+"""
+
+STAGE_SIX = """
+import random
+from papersat.cores import least_core
+from papersat.greatest import greatest
+from papersat.models import model_text
+from papersat.replaying import replay
+from papersat.signrows import sign_rows
+from tests.desks import new_desk
+from tests.sentences import knotted_sentences
+def told(answer):
+    return (answer.sentences, answer.paper, answer.core, answer.model and model_text(answer.model))
+for seed in range(4):
+    desk = new_desk()
+    desk.declare_function("u", [], "ratio")
+    for text in knotted_sentences(random.Random(seed), 12):
+        desk.claim(text)
+        print(told(desk.ask()))
+    print([told(answer) for answer in replay(desk.journal())[1]])
+    print([(signs, told(answer)) for signs, answer in sign_rows(desk, ["(< x y)", "(= a b)"])])
+    print(greatest(desk, "x", "(+ y 2)")[:2], greatest(desk, "(f x)", "(f y)")[:2])
+    core = least_core(desk.bank, desk.standing() + [desk.bank.make("not", None, desk.standing()[:1])], kept=desk.kept)
+    print(told(core[0]), [model_text(model) for model in core[1]], list(desk.bank), desk.kept.lists())
+"""
+
 
 def printed(program, seed):
     """What a program prints under a seed for the hashes of Python."""
@@ -103,3 +150,9 @@ class SameResultsTest(unittest.TestCase):
 
     def test_layers(self):
         self.check(STAGE_FOUR)
+
+    def test_answers_and_papers(self):
+        self.check(STAGE_FIVE)
+
+    def test_desks(self):
+        self.check(STAGE_SIX)

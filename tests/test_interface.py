@@ -6,11 +6,14 @@ import unittest
 
 from papersat.bank import Bank
 from papersat.classes import Classes
+from papersat.desk import Desk
 from papersat.joined import Joined
+from papersat.kept import Kept
 from papersat.listener import Forbidding, Listener
 from papersat.log import Log
 from papersat.rows import Rows
 from papersat.signature import Signature
+from papersat.solver import Answer
 from papersat.ways import Ways
 
 FUNCTIONS = {
@@ -39,6 +42,16 @@ FUNCTIONS = {
     "learning": ["learn(trail, watching, clause, source)", "final_clause(trail, watching, literal)"],
     "reasons": ["reason_step(bank, classes, log, a, b)", "clash_step(bank, classes, log)"],
     "meeting": ["meeting_pairs(bank, nodes)", "question(bank, log, sentences)"],
+    "building": ["build_model(bank, nodes, row, joined)"],
+    "rules": ["is_good_step(bank, steps, number)"],
+    "checker": ["first_bad(bank, steps)", "check(bank, sentences, steps)"],
+    "trimming": ["trim(steps)"],
+    "papertext": ["write_paper(bank, steps)", "read_paper(signature, text)"],
+    "solver": ["solve(bank, sentences, *, kept=None, restarts=12)"],
+    "replaying": ["replay(deeds)"],
+    "cores": ["least_core(bank, sentences, *, kept=None)"],
+    "signrows": ["sign_rows(desk, texts)"],
+    "greatest": ["greatest(desk, first, second)"],
 }
 
 LISTENER = ["told(self, literal)", "fault(self)", "back(self, count)", "told_count(self)"]
@@ -89,6 +102,13 @@ CLASSES = {
         "back(self, count)",
     ],
     ("joined", "Joined"): ["__init__(self, bank, log, nodes)", *LISTENER],
+    ("kept", "Kept"): ["__init__(self, *, limit=40)", "offer(self, steps)", "lists(self)", "usable(self, nodes)"],
+    ("solver", "Answer"): ["__bool__(self)"],
+    ("desk", "Desk"): [
+        "__init__(self)", "declare_sort(self, name)", "declare_function(self, name, arguments, result)", "claim(self, text)",
+        "push(self)", "drop(self)", "standing(self)", "ask(self, texts=())", "follows(self, text)", "trial(self, texts)",
+        "last(self)", "value(self, text)", "journal(self)",
+    ],
 }
 
 
@@ -121,3 +141,12 @@ class InterfaceTest(unittest.TestCase):
         joined = Joined(bank, Log(), [])
         self.assertEqual([type(each) for each in (joined.classes, joined.rows, joined.ways)], [Classes, Rows, Ways])
         self.assertTrue(issubclass(Joined, Listener) and issubclass(Forbidding, Listener))
+
+    def test_attributes_of_desks_and_answers(self):
+        desk = Desk()
+        self.assertEqual([type(each) for each in (desk.signature, desk.bank, desk.kept)], [Signature, Bank, Kept])
+        self.assertIsInstance(vars(Desk)["level_count"], property)
+        self.assertEqual(desk.level_count, 1)
+        for answer in (desk.ask(), desk.ask(["false"])):
+            self.assertIs(type(answer), Answer)
+            self.assertLessEqual({"sentences", "yes", "model", "paper", "core"}, set(vars(answer)))

@@ -4,20 +4,7 @@ import random
 import unittest
 
 from papersat.ways import Ways
-
-
-def can_hold(limits):
-    """True if heights fit all limits: no ring of the limits has a sum below zero."""
-    heights = {place: 0 for limit in limits for place in limit[:2]}
-    for _ in range(len(heights) + 1):
-        falls = False
-        for x, y, k, _ in limits:
-            if heights[x] > heights[y] + k:
-                heights[x] = heights[y] + k
-                falls = True
-        if not falls:
-            return True
-    return False
+from tests.layers import heights_exist
 
 
 class Held:
@@ -42,7 +29,7 @@ class Held:
         """True if all limits can hold; what settling gives is held against point 60."""
         ring = self.ways.settle()
         self.test.assertEqual(self.ways.limits(), len(self.stands))
-        self.test.assertEqual(ring is None, can_hold(self.stands))
+        self.test.assertEqual(ring is None, heights_exist(self.stands))
         if ring is None:
             self.check_heights()
             return True
