@@ -278,7 +278,7 @@ class HardTest(unittest.TestCase):
         return log, sorted(nodes.values()), numbers
 
     def test_holes(self):
-        for restarts in (0, 12):
+        for restarts in (0, 1, 2, 12):
             log, nodes, numbers = self.holes(6)
             search = Search(log, nodes, numbers, Listener())
             kind, number = search.ask([], restarts=restarts, record=True)
